@@ -144,6 +144,18 @@ class Rule:
         return things[self.below(len(things))]
 
 
+def large_bares(times, places=(6, 7, 8)):
+    """Bare webs of more places by a fixed rule, numbered in any order."""
+    for seed in range(times):
+        rule = Rule(seed)
+        many = rule.one_of(places)
+        befores = [[low for low in range(high) if rule.below(3) == 0] for high in range(many)]
+        for place in range(many - 1):
+            if not any(place in listed for listed in befores):
+                befores[place + 1 + rule.below(many - 1 - place)].append(place)
+        yield mixed(Bare(befores, many - 1), seed)
+
+
 def every_standing(places):
     """All standings of so many places, as ascending tuples."""
     for number in range(1 << places):

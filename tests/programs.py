@@ -52,7 +52,7 @@ class Writer:
 
     def statements(self, names, depth):
         text, visible = "", list(names)
-        for _ in range(self.rule.below(4)):
+        for _ in range(self.rule.below(4) + (depth == 2)):
             choice = self.rule.below(8)
             if choice < 3:
                 self.count += 1
@@ -74,7 +74,9 @@ class Writer:
         many = self.rule.below(4)
         parameters = [f"p{k}" for k in range(many)]
         body, visible = self.statements(parameters, 2)
-        text = f"fun {name}({', '.join(parameters)}){self.gap()}{{{body}give {self.expression(visible, 3)};}}"
+        # names that were changed above come in once more, so that little of a fun is without a road to its result
+        result = "".join(f"{part}{self.rule.one_of(MONOTONE)}" for part in visible[-3:]) + self.expression(visible, 2)
+        text = f"fun {name}({', '.join(parameters)}){self.gap()}{{{body}give {result};}}"
         self.funs.append((name, many))
         return text
 

@@ -130,6 +130,15 @@ def places_under(bare, place):
     return places_in(reached_along(bare.befores, check_place(bare, place)))
 
 
+def unders_of(bare):
+    """For each place the places under it, as binary ones."""
+    unders = [0] * len(bare)
+    for place in bare.ordered:
+        for before in bare.befores[place]:
+            unders[place] |= unders[before] | 1 << before
+    return unders
+
+
 def part_bare(bare, place):
     """The place and those under it as a bare web of their own, and their old numbers."""
     places = tuple(sorted([place, *places_under(bare, place)]))

@@ -1,6 +1,6 @@
 """Plans of the asker, and the rows of moves that they become."""
 
-from undocells.bares import is_place, reached_along
+from undocells.bares import is_place, unders_of
 from undocells.errors import BadPlan, TooMany
 from undocells.moves import MOST_MOVES, row_back
 from undocells.rounds import answers_of, fillable, is_ready, needed_in, told_state, worse_of
@@ -65,8 +65,7 @@ def check_plan(bare, plan, asked, filled):
 def lean_plan(bare, plan, asked=None, filled=()):
     """The plan without the fillings of places that are not under the asked one."""
     place = check_plan(bare, plan, asked, filled)
-    unders = [reached_along(bare.befores, other) for other in range(len(bare))]
-    return lean_in(plan, place, unders)
+    return lean_in(plan, place, unders_of(bare))
 
 
 def lean_in(plan, asked, unders):
