@@ -2,11 +2,12 @@
 
 from undocells.basics import is_sequence, is_within
 from undocells.errors import BadKind, BadStep
-from undocells.words import MOST_NUMBER, check_kind, operand_count
+from undocells.words import check_kind, operand_count
 
 MOST_PLACES = 200
 MOST_GIVEN = 6
-OPERAND_ENDS = {"place": MOST_PLACES - 1, "given": MOST_GIVEN - 1, "number": MOST_NUMBER}
+# the greatest number that each operand may tell
+OPERAND_ENDS = {"place": 199, "given": 5, "number": 4095}
 
 
 def is_operand(thing):

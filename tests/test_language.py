@@ -1,0 +1,233 @@
+"""The package keeps to its small subset of Python, and the interface stands where it is listed."""
+
+import ast
+import builtins
+import inspect
+import unittest
+from importlib import import_module
+from pathlib import Path
+
+FOLDER = Path(__file__).resolve().parent.parent / "undocells"
+FILES = sorted(FOLDER.glob("*.py"))
+TREES = {path.stem: ast.parse(path.read_text()) for path in FILES}
+
+BUILTINS = set("""len range enumerate zip min max sum abs sorted reversed int str bool list tuple dict set isinstance ord
+    repr any all divmod ValueError KeyError iter""".split())
+METHODS = set("""append clear copy count endswith extend find get index insert isalnum isalpha isdigit islower isspace
+    isupper items join keys ljust lower lstrip partition pop remove replace reverse rfind rjust rpartition rsplit rstrip
+    setdefault split splitlines startswith strip update upper values zfill bit_length""".split())
+STATEMENTS = (ast.Assign, ast.AugAssign, ast.If, ast.While, ast.For, ast.Return, ast.Break, ast.Continue, ast.Pass,
+              ast.Raise, ast.Delete, ast.Try, ast.Expr, ast.FunctionDef, ast.ClassDef, ast.ImportFrom)
+NOT_USED = (ast.GeneratorExp, ast.SetComp, ast.NamedExpr, ast.Global, ast.Nonlocal, ast.Await, ast.AsyncFunctionDef,
+            ast.AsyncFor, ast.Div, ast.Pow, ast.MatMult, ast.AnnAssign)
+BARRED = set("register mro elements open input law version_info with_traceback add_note".split())
+BARRED_NAMES = set("""attrgetter breakpoint builtins compile copyright credits delattr dir eval exec exit gc getattr
+    globals hasattr help id importlib license locals methodcaller os quit setattr super type vars sys""".split())
+BARRED_WORDS = set("""type typing enum Enum IntEnum StrEnum Flag IntFlag Generic Protocol ABC ABCMeta namedtuple
+    NamedTuple TypedDict abstractmethod dataclass""".split())
+
+# the interface of what has landed: module, then each function with its parameters, each class with its methods
+FUNCTIONS = {
+    "words": "check_width(width) check_inputs(inputs,many,width) check_kind(kind) operand_count(kind) "
+             "step_word(kind,words,width)",
+    "readings": "names_in(expression) renamed_expression(expression,names) drawn_size(reading)",
+    "lex": "cut_text(text,most) is_name(text) take_sign(tokens,at,value) take_name(tokens,at)",
+    "reader": "read_expression(tokens,at,names,funs) read_text(text)",
+    "printer": "print_expression(expression) print_text(reading)",
+    "plain": "expression_word(expression,names,width) plain_worth(reading,width,inputs)",
+    "bares": "check_place(bare,place) check_places(bare,places) places_under(bare,place) part_bare(bare,place) "
+             "struck_arrow(bare,place,before) renumbered(bare,places) bare_text(bare) read_bare(text)",
+    "webs": "web_worths(web,inputs) web_worth(web,inputs) joined_steps(web)",
+    "webmaker": "web_of(reading,width,*,joined=True)",
+    "moves": "check_room(room) check_row(bare,row,filled=()) standings_of(bare,row,filled=()) "
+             "room_of(bare,row,filled=()) filled_behind(bare,row,filled=()) "
+             "row_fault(bare,row,room=None,*,wanted='kept') row_back(row)",
+    "joining": "joined_rows(*rows) cut_row(row,places) led_row(row,places) bracketed(inner,outer) "
+               "kept_of_shown(bare,row) foot_of(bare,row) kept_of_foot(bare,foot)",
+    "alike": "are_free(bare,one,other) change_row(bare,row,change) settled_row(bare,row) are_alike(bare,one,other) "
+             "alike_way(bare,one,other) way_fault(bare,one,other,way)",
+    "cellwords": "cells_behind(web,inputs,cells,row)",
+    "search": "reached_standings(bare,room) least_way(bare,room,first,last) price_of(bare) shown_price_of(bare) "
+              "ready_price_of(bare) fewest_moves(bare,room)",
+    "closed": "closed_lot(bare,room,*,shown=False) lot_fault(bare,room,lot,*,shown=False)",
+    "curve": "price_curve(bare)",
+    "rounds": "is_settled(bare,asked,filled) still_needed(bare,asked=None,filled=()) rounds_of(bare) needed_table(bare)",
+    "plans": "plan_length(plan) plan_fault(bare,plan,asked=None,filled=()) best_plan(bare,asked=None,filled=()) "
+             "lean_plan(bare,plan,asked=None,filled=()) plan_to_row(bare,plan,asked=None,filled=())",
+}
+CLASSES = {
+    "readings": ("Reading", "funs", "__init__ __eq__ program"),
+    "steps": ("Step", "kind,operands", "__init__ __eq__"),
+    "bares": ("Bare", "befores,end", "__init__ __eq__ __len__"),
+    "webs": ("Web", "width,many,steps", "__init__ __eq__ __len__ __iter__"),
+}
+
+
+def nodes():
+    for name, tree in TREES.items():
+        for node in ast.walk(tree):
+            yield f"{name}.py:{getattr(node, 'lineno', 0)}", node
+
+
+class Interface(unittest.TestCase):
+
+    def test_each_function_is_defined_in_its_file_with_its_parameters(self):
+        for module, listed in FUNCTIONS.items():
+            for told in listed.split(" "):
+                name = told.split("(")[0]
+                function = getattr(import_module(f"undocells.{module}"), name)
+                self.assertEqual(function.__module__, f"undocells.{module}")
+                signature = str(inspect.signature(function)).replace(" ", "")
+                self.assertEqual(name + signature, told)
+
+    def test_each_class_is_defined_in_its_file_with_its_methods(self):
+        for module, (name, parameters, methods) in CLASSES.items():
+            made = getattr(import_module(f"undocells.{module}"), name)
+            self.assertEqual((made.__module__, made.__bases__), (f"undocells.{module}", (object,)))
+            signature = str(inspect.signature(made)).replace(" ", "")
+            self.assertEqual(signature, f"({parameters})")
+            for method in methods.split():
+                self.assertIn(method, vars(made))
+
+    def test_standings_are_a_generator(self):
+        self.assertTrue(inspect.isgeneratorfunction(import_module("undocells.moves").standings_of))
+
+
+class Files(unittest.TestCase):
+
+    def test_the_folder_holds_nothing_but_the_files(self):
+        others = [path.name for path in FOLDER.iterdir() if path.suffix != ".py" and path.name != "__pycache__"]
+        self.assertEqual(others, [])
+        self.assertIn("__init__", TREES)
+
+    def test_sizes_and_characters(self):
+        for path in FILES:
+            text = path.read_text()
+            self.assertTrue(all(sign == "\n" or " " <= sign <= "~" for sign in text), path)
+            lines = text.split("\n")
+            self.assertLess(len(lines) - 1, 400, path)
+            self.assertTrue(all(len(line) <= 120 for line in lines), path)
+        for where, node in nodes():
+            if isinstance(node, ast.FunctionDef):
+                self.assertLessEqual(node.end_lineno - node.lineno + 1, 40, where)
+
+    def test_imports(self):
+        for name, tree in TREES.items():
+            head = True
+            for statement in tree.body:
+                if isinstance(statement, ast.ImportFrom):
+                    self.assertTrue(head and statement.level == 0, name)
+                    self.assertIn(statement.module.split(".")[0], ("undocells",))
+                    module = import_module(statement.module)
+                    for alias in statement.names:
+                        self.assertIsNone(alias.asname)
+                        thing = getattr(module, alias.name)
+                        self.assertEqual(getattr(thing, "__module__", statement.module), statement.module, alias.name)
+                elif not isinstance(statement, ast.Expr):
+                    head = False
+        for where, node in nodes():
+            self.assertNotIsInstance(node, ast.Import, where)
+
+    def test_no_two_files_import_from_each_other(self):
+        needs = {name: {node.module.split(".")[1] for node in tree.body if isinstance(node, ast.ImportFrom)}
+                 for name, tree in TREES.items()}
+        done = set()
+        while len(done) < len(needs):
+            ready = {name for name in needs if name not in done and needs[name] <= done}
+            self.assertTrue(ready, set(needs) - done)
+            done |= ready
+
+    def test_imports_are_used(self):
+        for name, tree in TREES.items():
+            used = {node.id for node in ast.walk(tree) if isinstance(node, ast.Name)}
+            for statement in tree.body:
+                if isinstance(statement, ast.ImportFrom):
+                    for alias in statement.names:
+                        self.assertIn(alias.name, used, name)
+
+
+class Subset(unittest.TestCase):
+
+    def test_statements_and_expressions(self):
+        for where, node in nodes():
+            if isinstance(node, ast.stmt):
+                self.assertIsInstance(node, STATEMENTS, where)
+            self.assertNotIsInstance(node, NOT_USED, where)
+            if isinstance(node, ast.FunctionDef):
+                names = [decorator.id for decorator in node.decorator_list]
+                self.assertIn(names, ([], ["property"]), where)
+                self.assertIsNone(node.returns)
+            if isinstance(node, ast.Compare) and isinstance(node.ops[0], (ast.Is, ast.IsNot)):
+                self.assertIsInstance(node.comparators[0], ast.Constant, where)
+            if isinstance(node, ast.Constant):
+                self.assertNotIsInstance(node.value, (float, complex, bytes), where)
+                if isinstance(node.value, str):
+                    self.assertNotIn("%", node.value, where)
+
+    def test_module_level_names_are_bound_once_to_plain_values(self):
+        for name, tree in TREES.items():
+            bound = []
+            for statement in tree.body:
+                if isinstance(statement, ast.Assign):
+                    self.assertEqual(len(statement.targets), 1)
+                    bound.append(statement.targets[0].id)
+                    for node in ast.walk(statement.value):
+                        self.assertNotIsInstance(node, (ast.Call, ast.Lambda, ast.ListComp), name)
+                elif isinstance(statement, ast.ImportFrom):
+                    bound += [alias.name for alias in statement.names]
+                elif isinstance(statement, (ast.FunctionDef, ast.ClassDef)):
+                    bound.append(statement.name)
+                else:
+                    self.assertIsInstance(statement, ast.Expr)
+                    self.assertIsInstance(statement.value.value, str)
+            self.assertEqual(len(bound), len(set(bound)), name)
+
+    def test_builtins_and_methods(self):
+        own = {node.name for _, node in nodes() if isinstance(node, ast.FunctionDef)}
+        for where, node in nodes():
+            if isinstance(node, ast.Name) and hasattr(builtins, node.id) and node.id != "property":
+                self.assertIn(node.id, BUILTINS, where)
+            if isinstance(node, ast.Call) and isinstance(node.func, ast.Attribute):
+                self.assertIn(node.func.attr, METHODS | own, where)
+
+    def test_names(self):
+        for name, tree in TREES.items():
+            outer = {alias.name for node in tree.body if isinstance(node, ast.ImportFrom) for alias in node.names}
+            outer |= {node.name for node in tree.body if isinstance(node, ast.ClassDef)}
+            for node in ast.walk(tree):
+                bound = ""
+                if isinstance(node, ast.arg):
+                    bound = node.arg
+                elif isinstance(node, ast.Name) and isinstance(node.ctx, ast.Store):
+                    bound = node.id
+                elif isinstance(node, ast.ExceptHandler) and node.name:
+                    bound = node.name
+                self.assertNotIn(bound, outer | BARRED | BARRED_NAMES, name)
+                self.assertFalse(hasattr(builtins, bound) if bound else False, f"{name}: {bound}")
+                if isinstance(node, ast.FunctionDef):
+                    self.assertNotIn(node.name, BARRED | BARRED_NAMES)
+                if isinstance(node, ast.Attribute):
+                    self.assertNotIn(node.attr, BARRED | {"args", "format"}, name)
+
+    def test_barred_words(self):
+        for where, node in nodes():
+            words = []
+            if isinstance(node, ast.Name):
+                words = [node.id]
+            elif isinstance(node, ast.Attribute):
+                words = [node.attr]
+            elif isinstance(node, (ast.arg, ast.keyword)):
+                words = [node.arg]
+            self.assertFalse(BARRED_WORDS & set(words), where)
+
+    def test_sets_are_not_stored(self):
+        for path in FILES:
+            for number, line in enumerate(path.read_text().split("\n")):
+                if " set(" in line or "(set(" in line:
+                    self.assertTrue("sorted(set(" in line or "len(set(" in line, f"{path}:{number + 1}")
+        for where, node in nodes():
+            self.assertNotIsInstance(node, ast.Set, where)
+
+
+if __name__ == "__main__":
+    unittest.main()
