@@ -86,7 +86,7 @@ class Changing(Checks):
 
     def test_form(self):
         wrong = [(), ("exchange",), ("strike",), ("double", 0), ("exchange", 0, 1), ("strike", 0, 0), ("double", 0, 1, 2),
-                 ("turn", 0), (None, 0), ("double", 0, 4), ("double", 0, -1), ("double", 9, 4), (["strike"], 0),
+                 ("turn", 0), ("turn", 0, 0), (None, 0), ("double", 0, 4), ("double", 0, -1), ("double", 9, 4), (["strike"], 0),
                  *[(word, thing) for word in ("exchange", "strike") for thing in NO_NUMBERS],
                  *[("double", thing, 0) for thing in NO_NUMBERS], *[("double", 0, thing) for thing in NO_NUMBERS],
                  *NO_SEQUENCES, "strike"]

@@ -19,6 +19,18 @@ class Cutting(Checks):
         self.same(got, (("word", "let", 0), ("name", "ab1", 4), ("sign", "=", 8), ("number", 40, 10), ("sign", "+", 13),
                         ("name", "x", 14), ("sign", ";", 15), ("end", "", 16)))
 
+    def test_all_letters_and_figures(self):
+        for letter in "abcdefghijklmnopqrstuvwxyz":
+            self.same(kinds(letter), [("name", letter)])
+            self.same(kinds("x" + letter), [("name", "x" + letter)])
+        for figure in "0123456789":
+            self.same(kinds(figure), [("number", int(figure))])
+            self.same(kinds("x" + figure), [("name", "x" + figure)])
+
+    def test_very_long_numbers(self):
+        for figures in ("1" * 59999, "0" * 59999):
+            self.fails(BadText(1, "number"), cut_text, " " + figures, 60000)
+
     def test_empty_texts(self):
         self.same(cut_text("", 0), (("end", "", 0),))
         self.same(cut_text(" \n ", 3), (("end", "", 3),))

@@ -54,7 +54,7 @@ class Expressions(Checks):
     def test_brackets_only_where_they_are_needed(self):
         for text in ("a", "7", "a+b*c", "(a+b)*c", "a-(b-c)", "a-b-c", "a<<3<<4", "(a+b)<<3", "a*b<<3",
                      "pick(a+b,c,1)", "table[1,2](a+b)", "f(a+b)<<1", "a==b==c", "a==(b==c)", "h(a,g())",
-                     "(a|b)&c", "a|b&c", "a*(b*c)", "(a<b)+1", "a<b<c", "(a==b)<<2", "pick((a+b)*c,1,2)"):
+                     "(a|b)&c", "a|b&c", "a*(b*c)", "(a<b)+1", "a<b<c", "a<<1>>2", "a>>1<<2", "a-b+c", "a+b-c", "a-(b+c)", "a+(b-c)", "(a==b)<<2", "pick((a+b)*c,1,2)"):
             self.same(print_expression(read_back(text)), text)
 
     def test_needless_brackets_and_blanks_go(self):

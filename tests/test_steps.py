@@ -28,7 +28,8 @@ class Steps(Checks):
 
     def test_befores_are_unlike_and_ascending(self):
         for operands, befores in ((((("place", 3), ("place", 3))), (3,)), ((("place", 9), ("place", 0)), (0, 9)),
-                                  ((("given", 3), ("number", 9)), ()), ((("number", 4), ("place", 199)), (199,))):
+                                  ((("given", 3), ("number", 9)), ()), ((("number", 4), ("place", 199)), (199,)),
+                                  ((("place", 8), ("place", 1)), (1, 8)), ((("place", 64), ("place", 33)), (33, 64))):
             self.same(Step(("*",), operands).befores, befores)
 
     def test_edges_of_operands(self):

@@ -80,6 +80,13 @@ class Making(Checks):
         self.same(steps_of("fun f(a){if 256{a=a+1;}else{a=a*2;}give a;}"), [(("*",), "g0 n2")])
         self.same(steps_of("fun f(a){if 256{a=a+1;}else{a=a*2;}give a;}", 9), [(("+",), "g0 n1")])
 
+    def test_nothing_is_made_of_the_branch_that_is_not_taken(self):
+        self.same(steps_of("fun f(a){let b=a;if 0{b=a*a;}else{b=a+1;}give b-a*a;}"),
+                  [(("+",), "g0 n1"), (("*",), "g0 g0"), (("-",), "p0 p1")])
+        rows = "repeat 13{repeat 16{b=b+b;}}"
+        self.same(steps_of("fun f(a){let b=a;if 1{b=a+1;}else{" + rows + "}give b;}"), [(("+",), "g0 n1")])
+        self.same(steps_of("fun f(a){let b=a;if 0{" + rows + "}else{b=a+1;}give b;}"), [(("+",), "g0 n1")])
+
     def test_ifs_within_ifs_and_lets_within_branches(self):
         text = "fun f(a,b){if a{let c=a*a;if b{c=c+1;}else{}b=c;}else{let c=b;b=c-a;}give b;}"
         self.same(steps_of(text), [(("*",), "g0 g0"), (("+",), "p0 n1"), (("pick",), "g1 p1 p0"), (("-",), "g1 g0"),

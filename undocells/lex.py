@@ -78,9 +78,7 @@ def cut_number(text, spot):
 
 def brackets_behind(token, brackets):
     """How many brackets count as passed and not closed behind the token."""
-    kind, value, spot = token
-    if kind != "sign":
-        return brackets
+    _, value, spot = token
     if value in ("}", ")", "]"):
         return max(0, brackets - 1)
     if value not in ("{", "(", "["):

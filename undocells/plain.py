@@ -37,20 +37,13 @@ def run_statements(body, names, width, funs):
     for statement in body:
         if statement[0] == "repeat":
             for _ in range(statement[1]):
-                run_block(statement[2], names, width, funs)
+                run_statements(statement[2], names, width, funs)
         elif statement[0] == "if":
             holds = worked_out(statement[1], names, width, funs) != 0
-            run_block(statement[2] if holds else statement[3], names, width, funs)
+            run_statements(statement[2] if holds else statement[3], names, width, funs)
         else:
+            # the let names of an ended body may stay: a reading names them only behind another let
             names[statement[1]] = worked_out(statement[2], names, width, funs)
-
-
-def run_block(body, names, width, funs):
-    """A body of its own, behind which its let names are gone."""
-    run_statements(body, names, width, funs)
-    for statement in body:
-        if statement[0] == "let":
-            del names[statement[1]]
 
 
 def plain_worth(reading, width, inputs):

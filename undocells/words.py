@@ -39,7 +39,7 @@ def is_table(numbers):
 
 def check_kind(kind):
     """The kind of a step, the numbers of a table as a tuple."""
-    if not isinstance(kind, tuple) or not 1 <= len(kind) <= 2 or not isinstance(kind[0], str):
+    if not isinstance(kind, tuple) or kind == ():
         raise BadKind()
     if len(kind) == 1 and (kind[0] in PAIR_SIGNS or kind[0] in ("pick", "same")):
         return kind
@@ -64,7 +64,7 @@ def step_word(kind, words, width):
         return words[1] if words[0] else words[2]
     if kind[0] in PAIR_SIGNS:
         return pair_word(kind[0], words[0], words[1]) & most
-    return single_word(kind, words[0], width) & most
+    return single_word(kind, words[0]) & most
 
 
 def pair_word(sign, one, other):
@@ -84,13 +84,10 @@ def pair_word(sign, one, other):
     return int(one == other) if sign == "==" else int(one < other)
 
 
-def single_word(kind, word, width):
+def single_word(kind, word):
     """What one word comes to; the result is not yet cut to the width."""
     if kind[0] == "table":
         return kind[1][word % len(kind[1])]
     if kind[0] == "same":
         return word
-    # a shift of the width or more is 0 at once, so that no great number arises
-    if kind[1] >= width:
-        return 0
     return word << kind[1] if kind[0] == "<<" else word >> kind[1]
