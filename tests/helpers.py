@@ -176,6 +176,42 @@ def rows_within(bare, room, rule, most):
     return row
 
 
+def walked(bare, row, first=()):
+    """The set of places filled behind a row."""
+    filled = set(first)
+    for place in row:
+        filled ^= {place}
+    return filled
+
+
+def kept_row(bare, rule, most=12):
+    """A kept row by a rule, with idle moves: a foot, the end, and another way back to nothing."""
+    foot, filled = [], set()
+    for _ in range(rule.below(most)):
+        moves = [p for p in range(len(bare)) if set(bare.befores[p]) <= filled and p != bare.end]
+        if moves:
+            foot.append(rule.one_of(moves))
+            filled ^= {foot[-1]}
+    foot += [place for place in bare.ordered if place != bare.end and place not in filled]
+    back = foot[::-1]
+    if rule.below(2):
+        back = list(bare.ordered)[:-1][::-1]
+    ahead = [bare.end, bare.end] * rule.below(2)
+    return foot + ahead + [bare.end] + back
+
+
+def shown_row(bare, rule, most=12):
+    """A shown row by a rule: a kept one and some moves that leave the end filled."""
+    row = kept_row(bare, rule, most)
+    filled = {bare.end}
+    for _ in range(rule.below(most)):
+        moves = [p for p in range(len(bare)) if set(bare.befores[p]) <= filled and p != bare.end]
+        if moves:
+            row.append(rule.one_of(moves))
+            filled ^= {row[-1]}
+    return row
+
+
 def error_named(name, *attributes):
     """An error of the package by its name."""
     return getattr(errors, name)(*attributes)

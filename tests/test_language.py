@@ -26,6 +26,9 @@ BARRED_NAMES = set("""attrgetter breakpoint builtins compile copyright credits d
 BARRED_WORDS = set("""type typing enum Enum IntEnum StrEnum Flag IntFlag Generic Protocol ABC ABCMeta namedtuple
     NamedTuple TypedDict abstractmethod dataclass""".split())
 
+# what may be imported from elsewhere
+LIBRARY = {"math": {"gcd"}}
+
 # the interface of what has landed: module, then each function with its parameters, each class with its methods
 FUNCTIONS = {
     "words": "check_width(width) check_inputs(inputs,many,width) check_kind(kind) operand_count(kind) "
@@ -52,6 +55,18 @@ FUNCTIONS = {
     "closed": "closed_lot(bare,room,*,shown=False) lot_fault(bare,room,lot,*,shown=False)",
     "curve": "price_curve(bare)",
     "rounds": "is_settled(bare,asked,filled) still_needed(bare,asked=None,filled=()) rounds_of(bare) needed_table(bare)",
+    "books": "book_fault(bare,book,rounds) book_against(bare,rounds) goes_over(book,filled,asked,place)",
+    "games": "play_out(bare,plan,book,rounds)",
+    "orderly": "filling_orders(bare,row) standing_plans(bare,row) row_to_plan(bare,row)",
+    "hues": "check_painting(bare,painting) names_left(bare,painting) names_of(bare)",
+    "namings": "plan_names(plan) naming_fault(bare,plan,painting=None) naming_plan(bare,painting=None)",
+    "painters": "painter_fault(bare,book,names) painter_book(bare,names)",
+    "leading": "naming_from_asking(bare,plan) asking_from_naming(bare,plan) "
+               "painter_from_challenger(bare,book,rounds) challenger_from_painter(bare,book,names)",
+    "factors": "check_prime(prime)",
+    "sums": "multiplied_out(one_sum) room_of_sum(one_sum) sum_fault(bare,one_sum) sum_of_row(bare,row,prime=0) "
+            "mixed_sum(bare,prime,rows,factors)",
+    "flows": "row_of_sum(bare,one_sum) part_fault(bare,part) put_together(bare,parts) taken_apart(bare,one_sum)",
     "plans": "plan_length(plan) plan_fault(bare,plan,asked=None,filled=()) best_plan(bare,asked=None,filled=()) "
              "lean_plan(bare,plan,asked=None,filled=()) plan_to_row(bare,plan,asked=None,filled=())",
 }
@@ -60,6 +75,10 @@ CLASSES = {
     "steps": ("Step", "kind,operands", "__init__ __eq__"),
     "bares": ("Bare", "befores,end", "__init__ __eq__ __len__"),
     "webs": ("Web", "width,many,steps", "__init__ __eq__ __len__ __iter__"),
+    "games": ("Game", "bare,rounds,turns=()",
+              "__init__ __eq__ __len__ __iter__ settled winner with_turn without_last"),
+    "sums": ("Sum", "prime,lines,ends", "__init__ __eq__"),
+    "flows": ("Part", "factor,base,moves", "__init__ __eq__ finish"),
 }
 
 
@@ -117,7 +136,10 @@ class Files(unittest.TestCase):
             for statement in tree.body:
                 if isinstance(statement, ast.ImportFrom):
                     self.assertTrue(head and statement.level == 0, name)
-                    self.assertIn(statement.module.split(".")[0], ("undocells",))
+                    if statement.module in LIBRARY:
+                        self.assertLessEqual({alias.name for alias in statement.names}, LIBRARY[statement.module])
+                        continue
+                    self.assertEqual(statement.module.split(".")[0], "undocells")
                     module = import_module(statement.module)
                     for alias in statement.names:
                         self.assertIsNone(alias.asname)
@@ -129,7 +151,8 @@ class Files(unittest.TestCase):
             self.assertNotIsInstance(node, ast.Import, where)
 
     def test_no_two_files_import_from_each_other(self):
-        needs = {name: {node.module.split(".")[1] for node in tree.body if isinstance(node, ast.ImportFrom)}
+        needs = {name: {node.module.split(".")[1] for node in tree.body
+                        if isinstance(node, ast.ImportFrom) and node.module not in LIBRARY}
                  for name, tree in TREES.items()}
         done = set()
         while len(done) < len(needs):

@@ -75,13 +75,13 @@ def ordered_of(befores, afters):
     return tuple(ordered)
 
 
-def reached_along(arrows, place):
-    """The places to which one or more of these arrows lead from a place, as binary ones."""
+def reached_along(arrows, place, barred=0):
+    """The places to which these arrows lead from a place past the barred ones, both as binary ones."""
     reached = 0
     waiting = list(arrows[place])
     while waiting:
         found = waiting.pop()
-        if not reached >> found & 1:
+        if not (reached | barred) >> found & 1:
             reached |= 1 << found
             waiting.extend(arrows[found])
     return reached
