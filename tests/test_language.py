@@ -27,7 +27,7 @@ BARRED_WORDS = set("""type typing enum Enum IntEnum StrEnum Flag IntFlag Generic
     NamedTuple TypedDict abstractmethod dataclass""".split())
 
 # what may be imported from elsewhere
-LIBRARY = {"math": {"gcd"}}
+LIBRARY = {"math": {"gcd"}, "heapq": {"heappop", "heappush"}}
 
 # the interface of what has landed: module, then each function with its parameters, each class with its methods
 FUNCTIONS = {
@@ -67,6 +67,18 @@ FUNCTIONS = {
     "sums": "multiplied_out(one_sum) room_of_sum(one_sum) sum_fault(bare,one_sum) sum_of_row(bare,row,prime=0) "
             "mixed_sum(bare,prime,rows,factors)",
     "flows": "row_of_sum(bare,one_sum) part_fault(bare,part) put_together(bare,parts) taken_apart(bare,one_sum)",
+    "leastsums": "least_sum(bare,room,prime=0,*,shown=False) factor_within(one_sum,lot)",
+    "dealing": "deal_out(needs)",
+    "ties": "check_in_tree(bare) tree_weight(bare) tree_price(bare) least_numbering(bare) "
+            "numbering_fault(bare,numbering) tree_turned(bare,end) numbering_turned(bare,numbering,end)",
+    "treeplans": "plan_of_numbering(bare,numbering) numbering_of_plan(bare,plan)",
+    "chains": "chain_bare(length) chain_price(length) longest_chain(cells) chain_moves(length) "
+              "chain_move(length,number) chain_standing(length,number) chain_number(length,standing)",
+    "planner": "piece_of(bare,asked,filled) great_plan(bare) great_cells(bare) great_row(bare,room=None) "
+               "chosen_row(bare,room)",
+    "bwread": "read_program(text)",
+    "bwtext": "program_text(program)",
+    "bwrun": "check_fuel(fuel) run_both(program,width,words,fuel=20000) run_traced(program,width,words,fuel=20000)",
     "plans": "plan_length(plan) plan_fault(bare,plan,asked=None,filled=()) best_plan(bare,asked=None,filled=()) "
              "lean_plan(bare,plan,asked=None,filled=()) plan_to_row(bare,plan,asked=None,filled=())",
 }
@@ -79,6 +91,7 @@ CLASSES = {
               "__init__ __eq__ __len__ __iter__ settled winner with_turn without_last"),
     "sums": ("Sum", "prime,lines,ends", "__init__ __eq__"),
     "flows": ("Part", "factor,base,moves", "__init__ __eq__ finish"),
+    "bwprogs": ("Program", "routines", "__init__ __eq__ routine_number"),
 }
 
 
