@@ -2,7 +2,7 @@
 
 from itertools import product
 
-from helpers import NO_NUMBERS, Checks, Rule, chain, every_standing, large_bares, some_bares
+from helpers import NO_NUMBERS, NO_SEQUENCES, Checks, Rule, chain, every_standing, large_bares, some_bares
 from test_rounds import needed_by
 from undocells.bares import Bare
 from undocells.books import book_against, book_fault, goes_over
@@ -107,6 +107,10 @@ class Faults(Checks):
         for entry in wrong:
             self.same(book_fault(THREE, (entry,), 9), "entry")
             self.same(book_fault(THREE, BOOK + (entry,), 9), "entry")
+
+    def test_a_book_that_is_no_sequence(self):
+        for thing in NO_SEQUENCES:
+            self.same(book_fault(THREE, thing, 2), "entry")
 
     def test_entry_with_less_than_one_round_left(self):
         self.same(book_fault(THREE, BOOK, 1), "entry")

@@ -153,7 +153,7 @@ class Faults(Checks):
         self.fails(BadProgram((0,), "parameters"), Program, [("a", names, ())])
 
     def test_form_of_a_statement(self):
-        wrong = [None, 3, "add", (), ("add",), ("add", "x"), ("add", "x", Y, Y), ["add", "x", Y], ("mul", "x", Y), (None, "x", Y),
+        wrong = [None, 3, "add", (), ("add",), ("add", "x"), ("add", "x", Y, Y), ["add", "x", Y], ("mul", "x", Y), (None, "x", Y), (["add"], "x", Y),
                  ("add", 3, Y), ("add", None, Y), ("swap", "x", 3), ("swap", "x"), ("swap", "x", "y", "z"), ("if", X, (), Y),
                  ("if", X, [], (), Y), ("if", X, (), None, Y), ("from", X, (), []), ("from", X, "", (), Y), ("local", 3, X, (), Y),
                  ("local", "z", X, [], Y), ("local", "z", X, ()), ("call", "p", ["x", "y"]), ("call", "p", ("x", 3)),
@@ -161,6 +161,17 @@ class Faults(Checks):
         for statement in wrong:
             self.refused((0,), "form", [statement])
             self.refused((1, 0, 0), "form", [("swap", "x", "y"), ("if", ONE, (statement,), (None,), ONE)])
+
+    def test_expressions_that_are_none(self):
+        wrong = (None, "y", 1, (), ("y",), ("name",), ("name", 3), ("name", "y", ()), ("number", -1), ("number", 4096), ("number", True),
+                 ("number", "1"), ("text", "y"), ["name", "y"], ("call", "p", (Y,)), ("op", ("+",)), ("op", ("+",), (Y,)),
+                 ("op", ("+",), [Y, Y]), ("op", ("+",), (Y, None)), ("op", "+", (Y, Y)), ("op", ("%",), (Y, Y)),
+                 ("op", ("+",), (Y, Y), ()), ("fun", ("+",), (Y, Y)), ("op", ("<<", 1), (Y, Y)), ("op", ("pick",), (Y, Y)))
+        for expression in wrong:
+            for statement in (("add", "x", expression), ("if", expression, (), (), Y), ("from", Y, (), (), expression),
+                              ("local", "z", expression, (), Y), ("local", "z", Y, (), expression)):
+                self.refused((0,), "form", [statement])
+                self.refused((0,), "form", [("if", Y, (), (), pair("*", expression, Y))])
 
     def test_name(self):
         for statement in (("add", "z", Y), ("sub", "z", Y), ("xor", "p", Y), ("swap", "z", "x"), ("swap", "x", "z"),
@@ -222,6 +233,9 @@ class Faults(Checks):
     def test_the_depth_of_a_chain_of_calls(self):
         routines = [("r0", ("x",), ())] + [(f"r{k}", ("x",), ((nested(2, ("call", f"r{k - 1}", ("x",)))),)) for k in range(1, 20)]
         self.same(len(Program(routines).routines), 20)
+        self.same(len(Program([*routines[:19], ("z", ("x",), (nested(5, ("call", "r18", ("x",))),))]).routines), 20)
+        last = ("z", ("x",), (nested(6, ("call", "r18", ("x",))),))
+        self.fails(BadProgram((19,), "deep"), Program, [*routines[:19], last])
         deeper = routines[:1] + [(f"r{k}", ("x",), ((nested(3, ("call", f"r{k - 1}", ("x",)))),)) for k in range(1, 20)]
         self.fails(BadProgram((16,), "deep"), Program, deeper)
 

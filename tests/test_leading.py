@@ -1,8 +1,10 @@
 """[7.5]: plans and books led from each game to the other."""
 
+from itertools import permutations
+
 from helpers import NO_NUMBERS, Checks, Rule, chain, large_bares, some_bares
 from test_books import behind as states_behind
-from test_hues import names_by
+from test_hues import is_over, names_by
 from test_namings import made_naming
 from test_painters import behind as paintings_behind
 from test_plans import length_of, made_plan
@@ -22,6 +24,18 @@ DIAMOND = Bare([[], [0], [0], [1, 2]], 3)
 
 def webs():
     return list(some_bares(5, 1)) + list(large_bares(12, (6, 7)))
+
+
+def dear_webs():
+    """Webs of 7 and 8 places with many arrows, which need many rounds."""
+    for seed in range(60):
+        rule = Rule(seed)
+        many = rule.one_of((7, 8))
+        befores = [[low for low in range(high) if rule.below(2 + seed % 2) == 0] for high in range(many)]
+        for place in range(many - 1):
+            if not any(place in listed for listed in befores):
+                befores[place + 1 + rule.below(many - 1 - place)].append(place)
+        yield Bare(befores, many - 1)
 
 
 def made_book(bare, rounds, rule):
@@ -125,6 +139,20 @@ class Namings(Checks):
             for times in range(3):
                 self.check(bare, made_naming(bare, frozenset([bare.end]), frozenset(), Rule(seed + 1000 * times)))
 
+    def test_naming_in_any_order(self):
+        # place 3 counts as blue while 2 is asked, and keeps 4 blue when 1 is asked, though a road leads from 1 to it
+        for bare in (Bare([[], [0], [1], [1], [3], [2, 4]], 5), Bare([[], [0], [0, 1], [1], [2], [3, 4]], 5), chain(6)):
+            for order in permutations(range(5)):
+                self.check(bare, self.ordered(bare, order, frozenset([5]), frozenset()))
+
+    def ordered(self, bare, order, reds, blues):
+        """The naming plan that names the places in an order until the painting is over."""
+        if is_over(bare, reds, blues):
+            return ()
+        place, *rest = order
+        red = self.ordered(bare, rest, reds | {place}, blues)
+        return (place, red, self.ordered(bare, rest, reds, blues | {place}))
+
     def test_best_naming_plans(self):
         for bare in webs():
             self.same(plan_length(self.check(bare, naming_plan(bare))), price_of(bare) - 1)
@@ -164,6 +192,12 @@ class Challengers(Checks):
             for rounds in range(1, price_of(bare)):
                 self.check(bare, book_against(bare, rounds), rounds)
                 self.check(bare, made_book(bare, rounds, Rule(seed)), rounds)
+
+    def test_books_of_webs_that_need_many_rounds(self):
+        for seed, bare in enumerate(dear_webs()):
+            for rounds in range(4, price_of(bare)):
+                led = self.check(bare, made_book(bare, rounds, Rule(seed)), rounds)
+                self.assertIsNone(book_fault(bare, challenger_from_painter(bare, led, rounds), rounds))
 
     def test_entries_that_cannot_be_met(self):
         book = tuple(sorted((*book_against(chain(5), 3), ((0,), 3, (2,)))))

@@ -241,6 +241,14 @@ class Rows(Checks):
             self.assertIsNone(row_fault(bare, made, room))
             self.same(made, row(bare.end, frozenset(), room))
 
+    def test_rows_a_little_below_20000_moves_and_a_little_above(self):
+        bare = made_bare(200, 6, 4)
+        _, row = teller(bare)
+        self.assertGreater(len(row(bare.end, frozenset(), 19)), 20000)
+        self.fails(TooMany(20000), great_row, bare, 19)
+        self.same(great_row(bare, 20), row(bare.end, frozenset(), 20))
+        self.same(len(great_row(bare, 20)), 19345)
+
     def test_rows_of_more_than_20000_moves(self):
         # each of these rooms is enough, as the row of a greater one shows
         self.fails(TooMany(20000), great_row, pyramid(19), 60)

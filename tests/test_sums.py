@@ -160,7 +160,8 @@ class Faults(Checks):
     def test_ends(self):
         wrong = [None, 3, list(RIGHT.ends), (None,), ((),), (((1,),),), (((1,), ONE, 1),), ([(1,), ONE],), (([1], ONE),),
                  (((), ONE),), (((0,), ONE),), (((1, 0), ONE),), (((1, 1), ONE),), (((1, 2), ONE),), (((1,), (0, 1)),),
-                 (((1,), 1),), (((1,), (2, 4)),), (((1,), (1, -1)),), (((1,), ONE), ((0, 1), ONE)), (((1,), ONE), ((1,), ONE))]
+                 (((1,), 1),), (((1,), (2, 4)),), (((1,), (1, -1)),), (((1,), ONE), ((0, 1), ONE)), (((1,), ONE), ((1,), ONE)),
+                 (((1,), ONE), ((1,), (1, 2)))]
         wrong += [(((thing,), ONE),) for thing in NO_NUMBERS] + [(((1,), thing),) for thing in NO_NUMBERS]
         for ends in wrong:
             self.same(sum_fault(TWO, Sum(0, LINES, ends)), "ends")

@@ -47,6 +47,9 @@ class PlanOf(Checks):
         plan = plan_of_numbering(bare, numbering)
         self.assertIsNone(plan_fault(bare, plan))
         self.assertLessEqual(length_of(plan), 1 + greatest(numbering))
+        if len(bare) < 12:
+            row = plan_to_row(bare, plan)
+            self.assertIsNone(row_fault(bare, row, 1 + length_of(plan)))
         return plan
 
     def test_a_few(self):

@@ -66,10 +66,8 @@ def parts_of(statement, letter):
 
 
 def used_names(statement):
-    """The visible names that a statement changes, exchanges or hands on."""
-    if statement[0] in ("call", "back"):
-        return list(statement[2])
-    return [] if statement[0] == "local" else parts_of(statement, "n")
+    """The names that a statement changes, exchanges or hands on, or makes."""
+    return list(statement[2]) if statement[0] in ("call", "back") else parts_of(statement, "n")
 
 
 def is_badly_named(statement, visible):

@@ -78,8 +78,8 @@ def read_statement(tokens, at):
     if is_sign(tokens[at], "<=>"):
         other, at = take_name(tokens, at + 1)
         return ("swap", name, other), take_sign(tokens, at, ";")
-    kind, sign, spot = tokens[at]
-    if kind != "sign" or sign not in CHANGES:
+    _, sign, spot = tokens[at]
+    if sign not in CHANGES:
         raise BadText(spot, "want")
     expression, at = read_last(tokens, at + 1)
     return (CHANGES[sign], name, expression), at

@@ -5,19 +5,12 @@ from undocells.basics import places_in
 from undocells.books import check_rounds, goes_over
 from undocells.errors import BadAnswer, BadPlan, NoTurn, Over, Taken
 from undocells.plans import plan_fault
-from undocells.rounds import answers_of
+from undocells.rounds import answers_of, is_ready
 
 
 def stands_on(bare, asked, filled):
     """Whether all befores of the asked place are among the filled places."""
     return all([before in filled for before in bare.befores[asked]])
-
-
-def winner_in(bare, asked, filled, left):
-    """Who has won, if anyone has."""
-    if stands_on(bare, asked, filled):
-        return "asker"
-    return "challenger" if left == 0 else None
 
 
 def state_behind(bare, asked, filled, turn):
@@ -41,7 +34,7 @@ class Game:
         self.turns = tuple([tuple(turn) for turn in turns])
         asked, filled, left = bare.end, 0, rounds - 1
         for turn in self.turns:
-            if winner_in(bare, asked, places_in(filled), left) is not None:
+            if is_ready(bare, asked, filled) or left == 0:
                 raise Over()
             asked, filled = state_behind(bare, asked, filled, turn)
             left -= 1
@@ -57,7 +50,9 @@ class Game:
     @property
     def winner(self):
         """Who has won, if anyone has."""
-        return winner_in(self.bare, self.asked, self.filled, self.left)
+        if stands_on(self.bare, self.asked, self.filled):
+            return "asker"
+        return "challenger" if self.left == 0 else None
 
     def with_turn(self, place, went):
         """The game behind one more turn."""

@@ -35,7 +35,6 @@ def naming_led(bare, plan, asked, hues, unders):
 
 def asking_from_naming(bare, plan):
     """A plan for the end made of a naming plan for the first painting."""
-    check_small(bare)
     word = naming_fault(bare, plan)
     if word is not None:
         raise BadNaming(word)
@@ -43,9 +42,9 @@ def asking_from_naming(bare, plan):
 
 
 def is_live(bare, state, place):
-    """Whether filling a place that is neither filled nor asked bears on the asked one."""
+    """Whether filling a place that is not asked bears on the asked one."""
     asked, filled = state
-    return reached_along(bare.befores, asked, filled) >> place & 1 == 1 and not filled >> place & 1
+    return reached_along(bare.befores, asked, filled) >> place & 1 == 1
 
 
 def counts_red(bare, asked, blues, place):
@@ -108,8 +107,6 @@ def painter_answer(bare, hues, state, goes, place):
 
 def challenger_from_painter(bare, book, names):
     """A book of the challenger made of a painter's book."""
-    check_small(bare)
-    check_rounds(names)
     word = painter_fault(bare, book, names)
     if word is not None:
         raise BadBook(word)

@@ -19,7 +19,6 @@ def part_of(bare, place, piece):
 
 def plan_of_numbering(bare, numbering):
     """The plan that fills the place whose tie has the greatest number left."""
-    check_in_tree(bare)
     check_numbering(bare, numbering)
     return plan_in(bare, numbering, bare.end, whole_piece(bare))
 
