@@ -200,6 +200,22 @@ class Subset(unittest.TestCase):
                 if isinstance(node.value, str):
                     self.assertNotIn("%", node.value, where)
 
+    def test_nothing_that_grows_gets_what_it_changes(self):
+        for where, node in nodes():
+            if isinstance(node, ast.AugAssign) and isinstance(node.op, (ast.Add, ast.BitOr)):
+                changed, got = node.target, [node.value]
+            elif (isinstance(node, ast.Call) and isinstance(node.func, ast.Attribute)
+                  and node.func.attr in ("extend", "update")):
+                changed, got = node.func.value, node.args
+            else:
+                continue
+            # an item of what is changed counts, too; one attribute of an object is not another
+            while isinstance(changed, ast.Subscript):
+                changed = changed.value
+            name = ast.unparse(changed)
+            parts = [ast.unparse(part) for thing in got for part in ast.walk(thing) if isinstance(part, ast.expr)]
+            self.assertNotIn(name, parts, where)
+
     def test_module_level_names_are_bound_once_to_plain_values(self):
         for name, tree in TREES.items():
             bound = []

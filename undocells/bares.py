@@ -135,7 +135,7 @@ def unders_of(bare):
     unders = [0] * len(bare)
     for place in bare.ordered:
         for before in bare.befores[place]:
-            unders[place] |= unders[before] | 1 << before
+            unders[place] = unders[place] | unders[before] | 1 << before
     return unders
 
 

@@ -100,8 +100,8 @@ def parts_lost(walk, asked, inner, piece):
             # all roads lead through the lowest of these next
             shared = through[place] ^ 1 << place
             following = (shared & -shared).bit_length() - 1
-            lost[following] |= lost[place]
-            many[following] += many[place]
+            lost[following] = lost[following] | lost[place]
+            many[following] = many[following] + many[place]
     return lost, many
 
 
