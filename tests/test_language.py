@@ -79,6 +79,22 @@ FUNCTIONS = {
     "bwread": "read_program(text)",
     "bwtext": "program_text(program)",
     "bwrun": "check_fuel(fuel) run_both(program,width,words,fuel=20000) run_traced(program,width,words,fuel=20000)",
+    "trails": "trail_standings(trail,width,words) trail_back(trail) straight_program(trail,many)",
+    "turnabout": "turned_body(body) turned_about(program) copied_out(program,shown)",
+    "tables": "check_table(table,width,many) turned_table(table) table_of(program,width,fuel=1000) rings_of(table) "
+              "chains_of(table) exchanges_of(table) exchanges_fault(table,exchanges) "
+              "program_of_table(width,many,table)",
+    "cells": "placed_row(bare,row) placed_back(placed) holdings_of(bare,placed,held=()) "
+             "placed_fault(bare,placed,held=()) last_holding(bare,placed,held=()) cells_needed(placed,held=()) "
+             "end_cell(bare,placed)",
+    "emit": "step_expression(step,holding) program_of_row(web,placed,cells=None,held=()) "
+            "words_held(web,inputs,holding,cells) placed_of_program(web,program,held=()) run_row(web,placed,inputs)",
+    "coderows": "operand_word(operand,words,width) test_holds(test,words,width) is_code_row(thing)",
+    "codejudge": "regions_of(code) code_fault(code)",
+    "bwcode": "code_of(program,width) turned_code(code)",
+    "states": "check_state(code,state) start_state(code,words) end_state(code,words) turned_state(state) "
+              "stepped(code,state) stepped_back(code,state) is_halted(code,state) outer_way(code,state) "
+              "left_over(code,state)",
     "plans": "plan_length(plan) plan_fault(bare,plan,asked=None,filled=()) best_plan(bare,asked=None,filled=()) "
              "lean_plan(bare,plan,asked=None,filled=()) plan_to_row(bare,plan,asked=None,filled=())",
 }
@@ -92,7 +108,14 @@ CLASSES = {
     "sums": ("Sum", "prime,lines,ends", "__init__ __eq__"),
     "flows": ("Part", "factor,base,moves", "__init__ __eq__ finish"),
     "bwprogs": ("Program", "routines", "__init__ __eq__ routine_number"),
+    "coderows": ("Code", "width,names,slots,rows,origins=()", "__init__ __eq__ __len__ __iter__"),
+    "states": ("MachineState", "gap,way,branch,words", "__init__ __eq__"),
+    "machine": ("Machine", "code,state", "__init__ state outer is_over step back turn run led"),
 }
+GENERATORS = (("moves", "standings_of"), ("trails", "trail_standings"), ("cells", "holdings_of"))
+METHODS_TOLD = ("games Game with_turn ,place,went", "games Game without_last ", "bwprogs Program routine_number ,name",
+                "machine Machine step ", "machine Machine back ", "machine Machine turn ",
+                "machine Machine run ,fuel=100000", "machine Machine led ,way,fuel=100000")
 
 
 def nodes():
@@ -121,8 +144,15 @@ class Interface(unittest.TestCase):
             for method in methods.split():
                 self.assertIn(method, vars(made))
 
-    def test_standings_are_a_generator(self):
-        self.assertTrue(inspect.isgeneratorfunction(import_module("undocells.moves").standings_of))
+    def test_what_is_told_as_a_generator_is_one(self):
+        for module, name in GENERATORS:
+            self.assertTrue(inspect.isgeneratorfunction(getattr(import_module(f"undocells.{module}"), name)))
+
+    def test_methods_have_their_parameters(self):
+        for told in METHODS_TOLD:
+            module, made, method, parameters = told.split(" ")
+            function = vars(getattr(import_module(f"undocells.{module}"), made))[method]
+            self.assertEqual(str(inspect.signature(function)).replace(" ", ""), f"(self{parameters})")
 
 
 class Files(unittest.TestCase):
