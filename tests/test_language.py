@@ -17,7 +17,7 @@ METHODS = set("""append clear copy count endswith extend find get index insert i
     isupper items join keys ljust lower lstrip partition pop remove replace reverse rfind rjust rpartition rsplit rstrip
     setdefault split splitlines startswith strip update upper values zfill bit_length""".split())
 STATEMENTS = (ast.Assign, ast.AugAssign, ast.If, ast.While, ast.For, ast.Return, ast.Break, ast.Continue, ast.Pass,
-              ast.Raise, ast.Delete, ast.Try, ast.Expr, ast.FunctionDef, ast.ClassDef, ast.ImportFrom)
+              ast.Raise, ast.Delete, ast.Try, ast.With, ast.Expr, ast.FunctionDef, ast.ClassDef, ast.ImportFrom)
 NOT_USED = (ast.GeneratorExp, ast.SetComp, ast.NamedExpr, ast.Global, ast.Nonlocal, ast.Await, ast.AsyncFunctionDef,
             ast.AsyncFor, ast.Div, ast.Pow, ast.MatMult, ast.AnnAssign)
 BARRED = set("register mro elements open input law version_info with_traceback add_note".split())
@@ -95,6 +95,19 @@ FUNCTIONS = {
     "states": "check_state(code,state) start_state(code,words) end_state(code,words) turned_state(state) "
               "stepped(code,state) stepped_back(code,state) is_halted(code,state) outer_way(code,state) "
               "left_over(code,state)",
+    "cuts": "states_of(code,state,most) cut_run(code,words,done,way,fuel=100000) state_count(code)",
+    "gates": "check_bits(bits,many=None) run_gates(bits,gates) check_gates(gates,wires) back_gates(gates) "
+             "moved_gates(gates,wires) bits_along(bits,gates) count_gates(gates) bits_of_word(word,width) "
+             "word_of_bits(bits)",
+    "adders": "flip_by(bit,target) both_by(one,other,target) add_gates(ones,sums,carries)",
+    "stepgates": "helper_count(kind,width) most_gates(kind,width) step_gates(kind,width,operands,target,helpers)",
+    "circuits": "circuit_of(web,placed) turned_circuit(circuit) first_bits(circuit,inputs) "
+                "cut_circuit(circuit,inputs,done,way) words_on(circuit,bits) run_circuit(circuit,inputs)",
+    "freeplaces": "check_free(bare,free) used_free(bare,free) fewest_free(bare,room) free_peak(bare,free,row) "
+                  "free_price(bare,free) chain_free(length,room) free_row(bare,free)",
+    "edits": "edited_text(text,edit) edit_back(text,edit)",
+    "compiling": "compile_all(text,width,room)",
+    "cutting": "many_steps(made,layer,inputs) words_cut(made,layer,inputs,done) cut_made(made,layer,inputs,done,way)",
     "plans": "plan_length(plan) plan_fault(bare,plan,asked=None,filled=()) best_plan(bare,asked=None,filled=()) "
              "lean_plan(bare,plan,asked=None,filled=()) plan_to_row(bare,plan,asked=None,filled=())",
 }
@@ -110,11 +123,19 @@ CLASSES = {
     "bwprogs": ("Program", "routines", "__init__ __eq__ routine_number"),
     "coderows": ("Code", "width,names,slots,rows,origins=()", "__init__ __eq__ __len__ __iter__"),
     "states": ("MachineState", "gap,way,branch,words", "__init__ __eq__"),
+    "circuits": ("Circuit", "width,many,cells,helpers,gates,ends,result",
+                 "__init__ __eq__ wires gates_back given_wires cell_wires helper_wires"),
+    "compiling": ("Made", "reading,web,row,placed,statements,code,circuit", "__init__ __eq__"),
+    "bench": ("Bench", "text,width,room", "__init__ __len__ __iter__ put take_back set_room trial tried"),
     "machine": ("Machine", "code,state", "__init__ state outer is_over step back turn run led"),
 }
-GENERATORS = (("moves", "standings_of"), ("trails", "trail_standings"), ("cells", "holdings_of"))
+GENERATORS = (("moves", "standings_of"), ("trails", "trail_standings"), ("cells", "holdings_of"),
+              ("cuts", "states_of"), ("gates", "bits_along"))
 METHODS_TOLD = ("games Game with_turn ,place,went", "games Game without_last ", "bwprogs Program routine_number ,name",
                 "machine Machine step ", "machine Machine back ", "machine Machine turn ",
+                "circuits Circuit given_wires ,number", "circuits Circuit cell_wires ,number",
+                "circuits Circuit helper_wires ", "bench Bench put ,edit", "bench Bench take_back ",
+                "bench Bench set_room ,room", "bench Bench trial ", "bench Bench tried ,call",
                 "machine Machine run ,fuel=100000", "machine Machine led ,way,fuel=100000")
 
 

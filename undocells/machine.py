@@ -72,19 +72,23 @@ class Machine:
         self.branch = tuple(stand.branch)
         self.words = tuple(stand.words)
 
-    def run(self, fuel=100000):
-        """Step until it is over, and tell how many steps were made."""
-        check_steps(fuel)
+    def advance(self, most):
+        """Make so many steps, or fewer if it is over, and tell how many were made."""
         stand = Stand(self.gap, self.way, self.branch, self.words)
         steps = 0
         try:
-            while steps < fuel and not is_at_end(self.code, stand.gap, stand.way, stand.branch):
+            while steps < most and not is_at_end(self.code, stand.gap, stand.way, stand.branch):
                 pass_row(self.code, stand)
                 steps += 1
         except RowStuck:
             self.stand_at(stand)
             raise
         self.stand_at(stand)
+        return steps
+
+    def run(self, fuel=100000):
+        """Step until it is over, and tell how many steps were made."""
+        steps = self.advance(check_steps(fuel))
         if not self.is_over:
             raise OutOfFuel()
         return steps
