@@ -53,6 +53,11 @@ def holding_of(cells):
     return tuple([(place, cells[place]) for place in sorted(cells)])
 
 
+def told_back(cells):
+    """The place in each held cell, as a dict."""
+    return {cell: place for place, cell in cells.items()}
+
+
 def do_placed(cells, taken, move):
     """Do a placed move that can be done; cells and taken, the place in each held cell, are changed."""
     place, cell = move
@@ -81,7 +86,7 @@ def check_placed(bare, placed, held):
     cells = checked_held(bare, held)
     if not is_sequence(placed) or len(placed) > MOST_MOVES:
         raise BadPlaced(-1, "form")
-    taken = {cell: place for place, cell in cells.items()}
+    taken = told_back(cells)
     for index, move in enumerate(placed):
         word = move_fault(bare, cells, taken, move)
         if word is not None:
@@ -95,7 +100,7 @@ def holdings_of(bare, placed, held=()):
     check_placed(bare, placed, held)
     moves = tuple(placed)
     cells = checked_held(bare, held)
-    taken = {cell: place for place, cell in cells.items()}
+    taken = told_back(cells)
     yield holding_of(cells)
     for move in moves:
         do_placed(cells, taken, move)

@@ -1,7 +1,7 @@
 """Placed rows as gates on wires: a block of gates for each move."""
 
 from undocells.basics import is_within
-from undocells.cells import cells_needed, holdings_of
+from undocells.cells import cells_needed, check_placed, do_placed
 from undocells.errors import BadDone, BadWay
 from undocells.gates import back_gates, bits_behind, bits_of_word, check_bits, word_of_bits
 from undocells.stepgates import helper_count, step_gates
@@ -70,20 +70,20 @@ def block_of(step, cell, cells, plan):
 
 def circuit_of(web, placed):
     """The circuit of a placed row that begins at nothing."""
-    holdings = tuple(holdings_of(web.bare, placed))
+    check_placed(web.bare, placed, ())
     helpers = max([helper_count(step.kind, web.width) for step in web.steps])
     plan = Circuit(web.width, web.many, cells_needed(placed), helpers, (), (), None)
-    gates, ends, known = [], [], {}
-    for (place, cell), holding in zip(placed, holdings):
-        cells = {held: other for held, other in holding}
+    gates, ends, known, cells, taken = [], [], {}, {}, {}
+    for move in placed:
+        place, cell = move
         # a block depends on its cell and those of the befores alone
         key = (place, cell, tuple([cells[before] for before in web.bare.befores[place]]))
         if key not in known:
             known[key] = block_of(web.steps[place], cell, cells, plan)
         gates.extend(known[key])
         ends.append(len(gates))
-    last = {held: other for held, other in holdings[-1]}
-    return Circuit(web.width, web.many, plan.cells, helpers, tuple(gates), tuple(ends), last.get(web.end))
+        do_placed(cells, taken, move)
+    return Circuit(web.width, web.many, plan.cells, helpers, tuple(gates), tuple(ends), cells.get(web.end))
 
 
 def first_bits(circuit, inputs):

@@ -3,7 +3,7 @@
 from undocells.basics import is_within
 from undocells.bwprogs import Program
 from undocells.bwrun import run_both
-from undocells.cells import MOST_CELL, cells_needed, checked_held, do_placed, end_cell, holdings_of
+from undocells.cells import MOST_CELL, cells_needed, check_placed, checked_held, do_placed, end_cell, told_back
 from undocells.errors import BadCells, NoCell, NotARow
 from undocells.webs import web_worths
 from undocells.words import check_inputs
@@ -44,16 +44,17 @@ def cell_names(many):
 
 def program_of_row(web, placed, cells=None, held=()):
     """The program of one routine in which each placed move is a statement."""
-    body = []
-    ahead = None
-    for index, holding in enumerate(holdings_of(web.bare, placed, held)):
-        if ahead is not None:
-            place, cell = placed[index - 1]
-            body.append(("xor", f"c{cell}", step_expression(web.steps[place], ahead)))
-        ahead = holding
+    check_placed(web.bare, placed, held)
     least = cells_needed(placed, held)
     if cells is not None and not is_within(cells, least, MOST_CELL + 1):
         raise BadCells(-1)
+    where = checked_held(web.bare, held)
+    taken = told_back(where)
+    body = []
+    for move in placed:
+        place, cell = move
+        body.append(("xor", f"c{cell}", expression_over(web.steps[place], where)))
+        do_placed(where, taken, move)
     names = input_names(web.many) + cell_names(least if cells is None else cells)
     return Program([("made", names, tuple(body))])
 
@@ -120,7 +121,7 @@ def placed_of_program(web, program, held=()):
     """The placed row that the last routine of a program writes."""
     cells = checked_held(web.bare, held)
     check_row_names(program.names, web.many)
-    taken = {cell: place for place, cell in cells.items()}
+    taken = told_back(cells)
     known = {}
     for place, step in enumerate(web.steps):
         known.setdefault((step.kind, step.operands), []).append(place)

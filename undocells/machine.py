@@ -2,8 +2,8 @@
 
 from undocells.basics import is_within
 from undocells.errors import BadFuel, BadWay, OutOfFuel, RowStuck
-from undocells.passing import Stand, is_at_end, pass_row
-from undocells.states import MachineState, check_state, is_halted, is_way, outer_way
+from undocells.passing import Stand, is_at_end, outer_of, pass_row
+from undocells.states import MachineState, check_state, is_way
 
 MOST_STEPS = 1000000
 
@@ -41,12 +41,12 @@ class Machine:
     @property
     def outer(self):
         """The way in which it passes the main rows."""
-        return outer_way(self.code, self.state)
+        return outer_of(self.code, self.way, self.branch)
 
     @property
     def is_over(self):
         """Whether it is halted."""
-        return is_halted(self.code, self.state)
+        return is_at_end(self.code, self.gap, self.way, self.branch)
 
     def step(self):
         """Make a step."""

@@ -18,6 +18,12 @@ class Stand:
         self.words = list(words)
 
 
+def outer_of(code, way, branch):
+    """The way in which the main rows are passed by a machine that stands so."""
+    turns = len([number for number in branch if code.rows[number][0] == "back"])
+    return -way if turns & 1 else way
+
+
 def is_at_end(code, gap, way, branch):
     """Whether a machine that stands so is halted."""
     if way == 1:
@@ -39,7 +45,7 @@ def pass_row(code, stand):
         end_section(code, stand)
     else:
         change_words(code, stand, number)
-        stand.gap += stand.way
+        stand.gap = stand.gap + stand.way
 
 
 def change_words(code, stand, number):
@@ -63,7 +69,7 @@ def pass_fork(code, stand, number):
     holds = test_holds(test, stand.words, code.width)
     leads_away = (word == "go") == (stand.way == 1)
     if not holds:
-        stand.gap += stand.way
+        stand.gap = stand.gap + stand.way
         return
     if not leads_away:
         raise RowStuck(number, word)

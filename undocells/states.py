@@ -2,7 +2,7 @@
 
 from undocells.basics import is_within
 from undocells.errors import BadState
-from undocells.passing import Stand, is_at_end, pass_row
+from undocells.passing import Stand, is_at_end, outer_of, pass_row
 from undocells.words import check_inputs
 
 
@@ -99,8 +99,7 @@ def stepped_back(code, state):
 
 def outer_way(code, state):
     """The way in which the main rows are passed."""
-    turns = len([number for number in state.branch if code.rows[number][0] == "back"])
-    return -state.way if turns & 1 else state.way
+    return outer_of(code, state.way, state.branch)
 
 
 def left_over(code, state):
