@@ -20,7 +20,7 @@ NO_KINDS = (None, "+", ["+"], (), ("+", 1), ("x",), ("<<",), ("<<", -1), ("<<", 
 
 
 def bad_rows():
-    yield from (None, 5, "add", [], (), (1,), (None,), ("ADD", 0, ("same",), (ONE,)), ("step",), (("add",), 0),
+    yield from (None, 5, "add", [], (), (1,), (None,), ("ADD", 0, ("same",), (ONE,)), ("step",), (("add",), 0), (["zero"], 0), ({}, 0),
                 ["zero", 0], ["swap", 0, 1], ("add",), ("sub", 0), ("xor", 0, ("same",)), ("zero",), ("swap", 0),
                 ("go", (SLOT0, 1)), ("come", 1), ("enter",), ("leave",), ("call",), ("back",),
                 ("zero", 0, 0), ("swap", 0, 1, 2), ("go", (SLOT0, 1), 0, 0), ("enter", 0, 0), ("call", 0, ()),
@@ -95,6 +95,11 @@ class Codes(Checks):
         rows.clear()
         origins.clear()
         self.same((code.names, len(code.rows), len(code.origins)), (("x", "y"), 7, 7))
+
+    def test_origins_are_kept_as_tuples(self):
+        rows = [("zero", 0)] * 3
+        self.same(Code(3, ("x",), 1, rows, [[0, 1], (0, 2), [0]]).origins, ((0, 1), (0, 2), (0,)))
+        self.same(Code(3, ("x",), 1, rows, ["a", None, 5]).origins, ("a", None, 5))
 
     def test_without_a_section_and_without_a_row(self):
         code = Code(1, (), 0, ())

@@ -112,6 +112,21 @@ class Cut(Checks):
         self.same(parts(cut_run(long, (0,), 1000000, -1, 1000000)), (50002, -1, (), (0,)))
         self.same(parts(cut_run(long, (0,), 4, 1)), (50004, 1, (), (100000 % 16,)))
 
+    def test_the_fuel_is_100000_unless_told(self):
+        for many in (49999, 50000):
+            # two rows and twice the section, which each end with one more step
+            code = Code(4, ("x",), 1, [("enter", 0), *[ADD] * (many - 1), ("leave", 0), ("call", 0), ("call", 0)])
+            self.same(len(code) - code.start + 2 * (many - 1) + 2, 2 * many + 2)
+            if 2 * many + 2 <= 100000:
+                self.same(parts(cut_run(code, (0,), 0, 1))[0], len(code))
+                self.same(parts(cut_run(code, (0,), 1000000, -1))[0], code.start)
+            else:
+                self.fails(OutOfFuel(), cut_run, code, (0,), 0, 1)
+                self.fails(OutOfFuel(), cut_run, code, (0,), 1000000, -1)
+        odd = Code(4, ("x",), 1, [*[("enter", 0), *[ADD] * 49998, ("leave", 0), ("call", 0), ("call", 0)], ADD])
+        self.fails(OutOfFuel(), cut_run, odd, (0,), 0, 1)
+        self.same(parts(cut_run(odd, (0,), 1, 1))[0], len(odd))
+
     def test_wrong_arguments_in_their_order(self):
         for words in NO_SEQUENCES:
             self.fails(BadInputs(-1, "many"), cut_run, CODE, words, None, None, None)

@@ -185,6 +185,11 @@ class ReadBack(Checks):
         good = Program([("p", names, (first, ("xor", "c1", times), ("xor", "c1", times), first, ("xor", "c2", add)))])
         self.same(placed_of_program(PLUS, good), ((0, 0), (1, 1), (1, 1), (0, 0), (0, 2)))
 
+    def test_an_input_is_no_cell(self):
+        web = Web(4, 1, [Step(("same",), [("number", 9)]), Step(("+",), [("place", 0), ("given", 0)])])
+        program = Program([("p", ("i0", "c0"), (("xor", "i0", number(9)),))])
+        self.fails(NotARow(0), placed_of_program, web, program)
+
     def test_a_place_held_elsewhere_and_a_cell_that_is_taken(self):
         add = ("op", ("+",), (name("i0"), name("i1")))
         names = ("i0", "i1", "c0", "c1")

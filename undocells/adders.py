@@ -38,7 +38,7 @@ def add_gates(ones, sums, carries):
         carry = carried_into(position, carries)
         if position < last:
             # the sum is still the old one here, so the same gates empty the carry
-            gates.extend(most_of(ones[position], sums[position], carry, carries[position])[::-1])
+            gates.extend(most_of(ones[position], sums[position], carry, carries[position]))
         gates.extend(flip_by(ones[position], sums[position]))
         gates.extend(flip_by(carry, sums[position]))
     return tuple(gates)

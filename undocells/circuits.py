@@ -57,7 +57,7 @@ def operand_bits(operand, cells, plan):
     """The operand bits of a step's operand; cells tells the cell of each held place, plan the wires."""
     name, number = operand
     if name == "number":
-        return tuple(["on" if bit else "off" for bit in bits_of_word(number, plan.width)])
+        return ["on" if bit else "off" for bit in bits_of_word(number, plan.width)]
     return plan.given_wires(number) if name == "given" else plan.cell_wires(cells[number])
 
 

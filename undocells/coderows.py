@@ -33,7 +33,7 @@ def is_from_nought(thing):
 
 def is_operand(thing):
     """Whether it is an operand of the code."""
-    if not isinstance(thing, tuple) or len(thing) != 2 or not isinstance(thing[0], str):
+    if not isinstance(thing, tuple) or len(thing) != 2:
         return False
     return thing[0] == "slot" and is_from_nought(thing[1]) or thing[0] == "number" and is_number(thing[1])
 

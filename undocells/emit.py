@@ -71,7 +71,7 @@ def words_held(web, inputs, holding, cells):
 def check_row_names(names, many):
     """Raise the error of parameters that are not those of a row's program over so many inputs."""
     cells = len(names) - many
-    if not 0 <= cells <= MOST_CELL + 1 or names != input_names(many) + cell_names(cells):
+    if cells > MOST_CELL + 1 or names != input_names(many) + cell_names(cells):
         raise NotARow(-1)
 
 
@@ -93,27 +93,23 @@ def told_operand(expression, taken):
 
 
 def told_step(expression, taken):
-    """The kind and the operands of the step that an expression writes, or None."""
+    """The kind and the operands of the step that an expression writes; a web has it only if they are a step's."""
     if expression[0] != "op":
-        operand = told_operand(expression, taken)
-        return None if operand is None else (("same",), (operand,))
-    operands = [told_operand(part, taken) for part in expression[2]]
-    # a step of this kind is written as its operand alone
-    if expression[1] == ("same",) or None in operands:
-        return None
-    return expression[1], tuple(operands)
+        return ("same",), (told_operand(expression, taken),)
+    # a step of the kind same is written as its operand alone
+    kind = () if expression[1] == ("same",) else expression[1]
+    return kind, tuple([told_operand(part, taken) for part in expression[2]])
 
 
 def told_place(statement, known, cells, taken):
     """The least place whose move a statement can be, or None; known tells the places of each kind and operands."""
     if statement[0] != "xor":
         return None
-    cell, step = cell_of(statement[1]), told_step(statement[2], taken)
-    if cell is None or step is None or step not in known:
-        return None
-    for place in known[step]:
-        if cells.get(place, cell) == cell and taken.get(cell, place) == place:
-            return place
+    cell = cell_of(statement[1])
+    if cell is not None:
+        for place in known.get(told_step(statement[2], taken), ()):
+            if cells.get(place, cell) == cell and taken.get(cell, place) == place:
+                return place
     return None
 
 

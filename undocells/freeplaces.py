@@ -35,27 +35,24 @@ def free_peak(bare, free, row):
 
 
 def least_peaks(bare, beside):
-    """(least peak, standing before it) for each standing, as far as needed; beside tells the free places."""
-    goal = 1 << bare.end
-    peaks = {0: (0, 0)}
+    """(peaks, befores): for each standing the least peak on the way to it, and the one ahead of it on this way."""
+    peaks, befores = {0: 0}, {}
     waiting = [(0, 0)]
-    done = {}
-    while waiting and goal not in done:
+    while waiting:
         peak, standing = heappop(waiting)
-        if standing in done:
-            continue
-        done[standing] = True
         for _, after in moves_at(bare, standing, 0, MOST_SEARCHED):
-            reached = max(peak, len(places_in(after & ~beside)))
-            if after not in peaks or reached < peaks[after][0]:
-                peaks[after] = (reached, standing)
-                heappush(waiting, (reached, after))
-    return peaks
+            # standings come with rising peaks, so the first way to one is the best
+            if after not in peaks:
+                peaks[after] = max(peak, len(places_in(after & ~beside)))
+                befores[after] = standing
+                heappush(waiting, (peaks[after], after))
+    return peaks, befores
 
 
 def price_beside(bare, beside):
     """The least peak of all kept rows; the free places are binary ones."""
-    return least_peaks(bare, beside)[1 << bare.end][0]
+    peaks, _ = least_peaks(bare, beside)
+    return peaks[1 << bare.end]
 
 
 def free_price(bare, free):
@@ -93,12 +90,11 @@ def free_row(bare, free):
     """A kept row whose peak is the free price."""
     places = check_free(bare, free)
     check_small(bare)
-    peaks = least_peaks(bare, mask_of(places))
+    _, befores = least_peaks(bare, mask_of(places))
     moves, standing = [], 1 << bare.end
     while standing:
-        before = peaks[standing][1]
-        moves.append((standing ^ before).bit_length() - 1)
-        standing = before
+        moves.append((standing ^ befores[standing]).bit_length() - 1)
+        standing = befores[standing]
     return tuple(moves[::-1])
 
 
@@ -106,7 +102,7 @@ def fewest_free(bare, room):
     """The fewest free places with which the free price is at most the room."""
     check_room(room)
     check_small(bare)
-    return first_lot(bare, tuple([place for place in range(len(bare)) if place != bare.end]), room)
+    return first_lot(bare, [place for place in range(len(bare)) if place != bare.end], room)
 
 
 def chain_free(length, room):

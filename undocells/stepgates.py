@@ -185,7 +185,8 @@ def added_gates(bit, others, sums, carries, product):
         gates.extend(carry_gates(bit, others[position], sums[position], position, carries, product))
     for position in range(last, -1, -1):
         if position < last:
-            gates.extend(carry_gates(bit, others[position], sums[position], position, carries, product)[::-1])
+            # these gates are their own way back
+            gates.extend(carry_gates(bit, others[position], sums[position], position, carries, product))
         gates.extend(both_by(bit, others[position], sums[position]))
         gates.extend(flip_by(carried_into(position, carries), sums[position]))
     return gates

@@ -2,7 +2,7 @@
 
 from undocells.basics import is_sequence, is_within
 from undocells.bwprogs import Program
-from undocells.bwrun import check_fuel, run_both
+from undocells.bwrun import run_both
 from undocells.errors import BadMany, BadTable, OutOfFuel, Stuck, TooMany
 from undocells.trails import word_names
 from undocells.words import check_width
@@ -56,7 +56,6 @@ def table_of(program, width, fuel=1000):
     many = len(program.names)
     if width * many > MOST_BITS:
         raise TooMany(MOST_BITS)
-    check_fuel(fuel)
     numbers = range(1 << width * many)
     return tuple([end_of_run(program, width, words_of_number(number, width, many), fuel) for number in numbers])
 
