@@ -218,6 +218,36 @@ class OfPrograms(Checks):
                                 self.assertTrue(stop == end_state(code, tuple(told.words)))
                                 self.assertLessEqual(steps, told.bounds)
 
+    def test_operations_within_operations_are_worked_out_back_on_every_road(self):
+        deep = "((n+y)*(n^3)-((y&n)+(n<<1)))"
+        texts = [f"x+={deep}*({deep}+1);x-=({deep}^y)<<1;x^=(y+1)*((n+2)*({deep}|y));",
+                 f"if ({deep}<y)+(y*(n+1))" + "{x+=1;}else{x+=2;}" + f"fi ({deep}<y)+(y*(n+1));",
+                 "local v=0{from (v+0)*((v+1)*(v+y+1))==0{v+=1;x+=v;}loop{x^=" + deep + "+v;}until "
+                 "((v+1)*(v+y*0))-(v+v*0)==9;}end v=3;",
+                 f"local v={deep}*(y+(n+1))" + "{x+=v;}" + f"end v=({deep}*(y+(n+1)))+((y-y)*(n+1));"]
+        ended = 0
+        for text in texts:
+            program = read_program("routine p(x,y,n){" + text + "}")
+            for width in (1, 3, 4):
+                code, back = code_of(program, width), turned_about(program)
+                for number_of in range(60):
+                    rule = Rule(number_of)
+                    words = tuple(rule.below(2 ** width) for _ in range(3))
+                    told = Watch(program.routines, width, words, 300)
+                    steps, stop = stop_of(code, words)
+                    if told.ending:
+                        self.same(stop, told.ending[0])
+                        continue
+                    ended += 1
+                    last = tuple(told.words)
+                    self.assertTrue(stop == end_state(code, last))
+                    self.assertLessEqual(steps, told.bounds)
+                    machine = Machine(code, end_state(code, last))
+                    machine.led(-1)
+                    self.assertTrue(machine.state == turned_state(start_state(code, words)))
+                    self.same(run_both(back, width, last), words)
+        self.assertGreater(ended, 500)
+
     def test_without_statements_and_without_names(self):
         code = code_of(Program([("p", (), ())]), 1)
         self.same((code.names, len(code), code.start, code.spans, code.origins), ((), 0, 0, (), ()))

@@ -159,7 +159,7 @@ def write_handing(pen, statement, where, slots):
     swaps = [("swap", slots[handed], slot) for handed, slot in zip(names, pen.handed[number])]
     pen.put_all(where, swaps)
     pen.put(where, (word, number))
-    pen.put_all(where, swaps[::-1])
+    pen.put_all(where, swaps)
 
 
 def write_if(pen, statement, where, slots, free):

@@ -25,7 +25,7 @@ def cells_of(made):
 def parted(made, words):
     """The words of the inputs and those of the cells."""
     many = made.web.many
-    return tuple(words[:many]), tuple(words[many:many + cells_of(made)])
+    return words[:many], words[many:many + cells_of(made)]
 
 
 def begun_words(made, inputs):

@@ -56,8 +56,10 @@ def table_of(program, width, fuel=1000):
     many = len(program.names)
     if width * many > MOST_BITS:
         raise TooMany(MOST_BITS)
-    numbers = range(1 << width * many)
-    return tuple([end_of_run(program, width, words_of_number(number, width, many), fuel) for number in numbers])
+    ends = []
+    for number in range(1 << width * many):
+        ends.append(end_of_run(program, width, words_of_number(number, width, many), fuel))
+    return tuple(ends)
 
 
 def turned_table(table):
