@@ -2,8 +2,7 @@
 
 from undocells.basics import is_within
 from undocells.errors import BadFuel, BadWay, OutOfFuel, RowStuck
-from undocells.passing import Stand, is_at_end, outer_of, pass_row
-from undocells.states import MachineState, check_state, is_way
+from undocells.states import MachineState, Stand, check_state, is_at_end, is_way, outer_of, pass_row
 
 MOST_STEPS = 1000000
 
