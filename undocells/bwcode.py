@@ -41,7 +41,7 @@ class Pen:
     """Code as it is written: its rows with their origins, and the slots that are dealt out."""
 
     def __init__(self, program):
-        self.rows = []
+        self.written = []
         self.origins = []
         self.numbers = {routine[0]: number for number, routine in enumerate(program.routines)}
         self.handed = []
@@ -60,11 +60,11 @@ class Pen:
 
     def put(self, where, row):
         """Write one row, and tell its number."""
-        if len(self.rows) == MOST_ROWS:
+        if len(self.written) == MOST_ROWS:
             raise TooMany(MOST_ROWS)
-        self.rows.append(row)
+        self.written.append(row)
         self.origins.append(where)
-        return len(self.rows) - 1
+        return len(self.written) - 1
 
     def put_all(self, where, rows):
         """Write rows."""
@@ -77,10 +77,10 @@ class Pen:
 
     def pair_up(self, go, come, go_test, come_test):
         """Fill two rows in as partners."""
-        self.rows[go] = ("go", go_test, come)
-        self.rows[come] = ("come", come_test, go)
+        self.written[go] = ("go", go_test, come)
+        self.written[come] = ("come", come_test, go)
 
-    def worked_out(self, expression, slots):
+    def work_out(self, expression, slots):
         """(operand, rows): the rows work the operations of an expression out, each into a scratch slot."""
         rows = []
         return self.lay_out(expression, slots, rows), rows
@@ -114,7 +114,7 @@ def code_of(program, width):
         write_block(pen, body, (number,), slots, pen.local_slots[number])
         if number < last:
             pen.put((number,), ("leave", number))
-    return Code(width, program.names, pen.slots, pen.rows, pen.origins)
+    return Code(width, program.names, pen.slots, pen.written, pen.origins)
 
 
 def write_block(pen, body, where, slots, free):
@@ -142,7 +142,7 @@ def write_statement(pen, statement, where, slots, free):
 
 def write_change(pen, where, head, expression, slots):
     """Write the change of a slot, both told by the head, by an expression."""
-    operand, rows = pen.worked_out(expression, slots)
+    operand, rows = pen.work_out(expression, slots)
     kind, operands = ("same",), (operand,)
     if rows:
         # the last operation need not be worked out: it is the change itself
@@ -165,8 +165,8 @@ def write_handing(pen, statement, where, slots):
 def write_if(pen, statement, where, slots, free):
     """Write an if. Scratch slots are empty in its blocks, so each test is worked out back on both roads."""
     _, first, yes, no, last = statement
-    begin, begin_rows = pen.worked_out(first, slots)
-    end, end_rows = pen.worked_out(last, slots)
+    begin, begin_rows = pen.work_out(first, slots)
+    end, end_rows = pen.work_out(last, slots)
     pen.put_all(where, begin_rows)
     forked = pen.leave_out(where)
     pen.put_all(where, begin_rows[::-1])
@@ -184,8 +184,8 @@ def write_if(pen, statement, where, slots, free):
 def write_from(pen, statement, where, slots, free):
     """Write a from: the road back to its beginning leads past the test that must not hold there."""
     _, first, body, again, last = statement
-    begin, begin_rows = pen.worked_out(first, slots)
-    end, end_rows = pen.worked_out(last, slots)
+    begin, begin_rows = pen.work_out(first, slots)
+    end, end_rows = pen.work_out(last, slots)
     pen.put_all(where, begin_rows)
     beginning = pen.leave_out(where)
     pen.put_all(where, begin_rows[::-1])

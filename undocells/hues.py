@@ -39,7 +39,7 @@ def first_hues(bare):
     return 1 << bare.end, 0
 
 
-def is_over(bare, hues):
+def is_painted_over(bare, hues):
     """Whether a red place has blue befores alone; the painting is told as binary ones."""
     reds, blues = hues
     for place, need in enumerate(bare.needs):
@@ -64,7 +64,7 @@ def names_behind(bare, hues, known):
     """How many names a painting still needs; known keeps what is worked out, and is changed."""
     if hues not in known:
         known[hues] = 0
-        if not is_over(bare, hues):
+        if not is_painted_over(bare, hues):
             known[hues] = 1 + min([worse_hue(bare, hues, place, known) for place in unpainted(bare, hues)])
     return known[hues]
 

@@ -4,7 +4,7 @@ from undocells.bares import reached_along, unders_of
 from undocells.basics import mask_of, places_in
 from undocells.books import book_fault, check_rounds, left_in
 from undocells.errors import BadBook, BadNaming, BadPlan
-from undocells.hues import first_hues, is_over, painted, unpainted
+from undocells.hues import first_hues, is_painted_over, painted, unpainted
 from undocells.namings import naming_fault
 from undocells.painters import book_of, count_painted, hues_of, painter_fault
 from undocells.plans import plan_fault
@@ -24,7 +24,7 @@ def naming_from_asking(bare, plan):
 def naming_led(bare, plan, asked, hues, unders):
     """The naming plan for a painting made of a plan for a state; unders has the places under each one."""
     # the painting may be over while the asked place is not yet settled: an elder red place then stands on blue ones
-    if is_over(bare, hues):
+    if is_painted_over(bare, hues):
         return ()
     place, stayed, gone = plan
     if not unders[asked] >> place & 1:

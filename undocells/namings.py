@@ -1,7 +1,7 @@
 """Plans of the namer."""
 
 from undocells.bares import is_place
-from undocells.hues import checked_hues, first_hues, is_over, names_behind, painted, unpainted, worse_hue
+from undocells.hues import checked_hues, first_hues, is_painted_over, names_behind, painted, unpainted, worse_hue
 from undocells.search import check_small
 
 
@@ -29,8 +29,8 @@ def naming_fault_in(bare, plan, hues):
     if not isinstance(plan, tuple) or len(plan) not in (0, 3):
         return "form"
     if plan == ():
-        return None if is_over(bare, hues) else "early"
-    if is_over(bare, hues):
+        return None if is_painted_over(bare, hues) else "early"
+    if is_painted_over(bare, hues):
         return "idle"
     place, red, blue = plan
     if not is_place(bare, place) or (hues[0] | hues[1]) >> place & 1:

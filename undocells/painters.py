@@ -4,7 +4,7 @@ from undocells.basics import mask_of, places_in
 from undocells.books import check_rounds
 from undocells.closed import is_standing
 from undocells.errors import Enough
-from undocells.hues import first_hues, is_over, names_behind, painted, unpainted
+from undocells.hues import first_hues, is_painted_over, names_behind, painted, unpainted
 from undocells.search import check_small
 
 
@@ -57,7 +57,7 @@ def painter_fault(bare, book, names):
     if any([place in entry[0] or place in entry[1] for entry in book for place in entry[2]]):
         return "reddened"
     reached = reached_hues(bare, told, names)
-    if any([is_over(bare, hues) for hues in reached]):
+    if any([is_painted_over(bare, hues) for hues in reached]):
         return "over"
     missing = [hues for hues in reached if hues not in told and count_painted(hues) < names]
     return "missing" if missing else None

@@ -28,7 +28,7 @@ def checked_words(words, width):
     return list(words)
 
 
-def is_over(thing, names):
+def is_expression_over(thing, names):
     """Whether it is an expression over these names alone; names is a dict."""
     return is_expression(thing) and all([name in names for name in names_in(thing)])
 
@@ -43,19 +43,21 @@ def is_deed(deed, living):
     if not isinstance(deed, tuple) or deed == () or not isinstance(deed[0], str):
         return False
     if deed[0] in CHECKS:
-        return len(deed) == 2 and is_over(deed[1], living)
+        return len(deed) == 2 and is_expression_over(deed[1], living)
     if len(deed) != 3:
         return False
     _, name, other = deed
     if deed[0] == "open":
-        return name == f"w{len(living)}" and is_over(other, living)
+        return name == f"w{len(living)}" and is_expression_over(other, living)
     if not is_living(name, living):
         return False
     if deed[0] == "swap":
         return is_living(other, living) and name != other
     if deed[0] == "shut" and name != f"w{len(living) - 1}":
         return False
-    return (deed[0] in CHANGES or deed[0] == "shut") and is_over(other, living) and name not in names_in(other)
+    if deed[0] not in CHANGES and deed[0] != "shut":
+        return False
+    return is_expression_over(other, living) and name not in names_in(other)
 
 
 def do_deed(deed, living, width):
