@@ -9,22 +9,28 @@ from helpers import Checks, Rule, chain
 from programs import made_text, some_inputs
 from test_compiling import TEXT, texts
 from trees import all_trees, made_tree
+from undocells import cells, coderows, emit, tables, trails, turnabout
+from undocells.adders import add_gates
 from undocells.bench import Bench
 from undocells.books import book_against, book_fault
+from undocells.bwcode import code_of
 from undocells.bwprogs import Program
+from undocells.bwread import read_program
 from undocells.bwrun import run_both, run_traced
-from undocells.circuits import Circuit, cut_circuit, first_bits, run_circuit, turned_circuit, words_on
+from undocells.circuits import Circuit, circuit_of, cut_circuit, first_bits, run_circuit, turned_circuit, words_on
 from undocells.closed import closed_lot, lot_fault
 from undocells.coderows import Code
 from undocells.compiling import Made, compile_all
 from undocells.cuts import cut_run
-from undocells.cutting import LAYERS, cut_made, many_steps
-from undocells.edits import edited_text
+from undocells.cutting import LAYERS, cut_made, many_steps, words_cut
+from undocells.edits import edit_back, edited_text
 from undocells.emit import placed_of_program, run_row
 from undocells.errors import Enough, HasRow, UndoError
 from undocells.flows import Part
-from undocells.gates import run_gates
+from undocells.freeplaces import check_free, free_peak, free_price, free_row, used_free
 from undocells.games import Game
+from undocells.gates import (back_gates, bits_along, check_bits, check_gates, count_gates, moved_gates, run_gates,
+                             word_of_bits)
 from undocells.hues import names_of
 from undocells.moves import room_of, row_fault
 from undocells.plain import plain_worth
@@ -33,6 +39,7 @@ from undocells.readings import Reading
 from undocells.rounds import rounds_of
 from undocells.search import price_of
 from undocells.states import MachineState, end_state, start_state, turned_state
+from undocells.stepgates import step_gates
 from undocells.steps import Step
 from undocells.sums import Sum
 from undocells.ties import least_numbering, numbering_fault, tree_price, tree_turned
@@ -156,6 +163,59 @@ class Objects(Checks):
                 except UndoError as error:
                     told.append((error.__class__, vars(error)))
             self.same(told[0], told[1])
+
+
+class Passed(Checks):
+
+    def calls(self):
+        """(function, arguments) with lists wherever sequences may be passed."""
+        web = Web(3, 2, [Step(("*",), [("given", 0), ("given", 1)]), Step(("+",), [("place", 0), ("number", 1)])])
+        bare, placed = web.bare, [(0, 0), (1, 1), (0, 0)]
+        program = read_program("routine e(a){a+=1;}routine p(x,y){call e(x);y^=x;}")
+        trail = [("add", "w0", ("name", "w1")), ("holds", ("name", "w0"))]
+        table, code = [1, 2, 0, None], code_of(program, 3)
+        circuit, made = circuit_of(web, placed), compile_all(TEXT, 3, 6)
+        gates, bits = [["not", 0], ["both", 0, 1, 2]], [0, 1, 1]
+        yield from (
+            (list_of(trails.trail_standings), (trail, 3, [1, 2])), (trails.trail_back, (trail,)),
+            (trails.straight_program, (trail, 2)), (turnabout.turned_body, (list(program.routines[1][2]),)),
+            (tables.check_table, (table, 2, 1)), (tables.turned_table, (table,)), (tables.rings_of, (table,)),
+            (tables.chains_of, (table,)), (tables.exchanges_of, (table,)),
+            (tables.exchanges_fault, (table, [(0, 1), (0, 2)])), (tables.program_of_table, (2, 1, table)),
+            (cells.placed_row, (bare, [0, 1, 0])), (cells.placed_back, (placed,)), (cells.cells_needed, (placed, [(0, 4)])),
+            (list_of(cells.holdings_of), (bare, placed, [])), (cells.placed_fault, (bare, placed, [(1, 7)])),
+            (cells.last_holding, (bare, [(0, 1)], [(1, 7)])), (cells.end_cell, (bare, placed)),
+            (emit.step_expression, (web.steps[1], [(0, 3)])), (emit.program_of_row, (web, [(0, 1)], 9, [(1, 7)])),
+            (emit.words_held, (web, [1, 2], [(1, 0)], 2)), (emit.run_row, (web, placed, [3, 5])),
+            (emit.placed_of_program, (web, emit.program_of_row(web, placed), [])),
+            (coderows.operand_word, (("slot", 0), [1, 2], 3)), (coderows.test_holds, ((("slot", 0), 1), [1, 2], 3)),
+            (Code, (3, ["x"], 1, [("zero", 0)], [[0, 1]])), (start_state, (code, [1, 2])), (end_state, (code, [1, 2])),
+            (cut_run, (code, [1, 2], 3, -1)), (check_bits, (bits,)), (run_gates, (bits, gates)), (check_gates, (gates, 3)),
+            (back_gates, (gates,)), (moved_gates, (gates, [5, 6, 7])), (list_of(bits_along), (bits, gates)),
+            (count_gates, (gates,)), (word_of_bits, (bits,)), (add_gates, ([0, "on"], [1, 2], [3])),
+            (step_gates, (("*",), 2, [[0, 1], [1, "on"]], [2, 3], [4, 5, 6, 7])),
+            (step_gates, (("table", [1, 2]), 1, [[0]], [1], [2])), (circuit_of, (web, placed)),
+            (first_bits, (circuit, [3, 5])), (words_on, (circuit, [0] * circuit.wires)), (run_circuit, (circuit, [3, 5])),
+            (cut_circuit, (circuit, [3, 5], 2, "back")), (check_free, (bare, [0])), (used_free, (bare, [0])),
+            (free_peak, (bare, [0], [0, 1, 0])), (free_price, (bare, [0])), (free_row, (bare, [0])),
+            (edited_text, (TEXT, ["rename", "f", "c", "d"])), (edit_back, (TEXT, ["span", 0, 0, " "])),
+            (many_steps, (made, "code", [1, 2])), (words_cut, (made, "code", [1, 2], 3)),
+            (cut_made, (made, "row", [1, 2], 3, "on")))
+
+    def test_nothing_that_is_passed_is_changed_and_tuples_are_returned(self):
+        for call, arguments in self.calls():
+            before = repr(arguments)
+            told, again = call(*arguments), call(*arguments)
+            self.same(repr(arguments), before)
+            self.assertTrue(told == again)
+            self.assertNotIsInstance(told, list)
+            if isinstance(told, tuple):
+                self.assertNotIn("[", repr(told))
+
+
+def list_of(generator):
+    """A function that returns all that a generator yields."""
+    return lambda *arguments: tuple(generator(*arguments))
 
 
 class Readme(Checks):
